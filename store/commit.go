@@ -62,14 +62,15 @@ func (s *Store) write(changes []api.Change) (uint64, api.Errno) {
 	return stamp, api.OK
 }
 
-// track hands a done one to the tracker, and lets go all that no open transaction runs beside.
+// track hands a done one to the tracker, which then lets go all that no open transaction runs beside.
 func (s *Store) track(d api.Done) {
+	// One that has neither read nor written clashes with none, and leaves the tracker as it is.
+	if len(d.Marks.Keys)+len(d.Marks.Ranges)+len(d.Changes) == 0 {
+		return
+	}
 	p := s.parts
 	d.Stamp = p.stamps.Last()
-	// One that has neither read nor written clashes with none.
-	if len(d.Marks.Keys)+len(d.Marks.Ranges)+len(d.Changes) > 0 {
-		p.tracker.Add(d)
-	}
+	p.tracker.Add(d)
 	p.tracker.Drop(p.least())
 }
 

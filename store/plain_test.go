@@ -394,11 +394,12 @@ func (x *plainTxn) commit() (uint64, api.Errno) {
 	return stamp, api.OK
 }
 
-// track keeps a done one that has read or written, as long as there is room, and as long as one that is open runs beside it.
+// track keeps a done one that has read or written, as long as there is room; of those that are kept, all are let go that none that is open runs beside. One that has neither read nor written does none of it.
 func (p *plain) track(d api.Done) {
-	if len(d.Marks.Keys) > 0 || len(d.Marks.Ranges) > 0 || len(d.Changes) > 0 {
-		p.done = append(p.done, d)
+	if len(d.Marks.Keys) == 0 && len(d.Marks.Ranges) == 0 && len(d.Changes) == 0 {
+		return
 	}
+	p.done = append(p.done, d)
 	if len(p.done) > p.config.Tracked {
 		p.summary = max(p.summary, p.done[0].Stamp)
 		p.done = p.done[1:]

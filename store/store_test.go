@@ -459,7 +459,7 @@ func TestRoom(t *testing.T) {
 	}
 }
 
-// The tracker keeps a done one that has read or written as long as one that is open runs beside it: P15.1.
+// The tracker keeps a done one that has read or written till the next such one is committed and none that is open runs beside it: P15.1.
 func TestTracked(t *testing.T) {
 	a, b := key("A", "a"), key("A", "b")
 	s := nine(t)
@@ -482,7 +482,38 @@ func TestTracked(t *testing.T) {
 	puts(t, s, key("A", "c"), nil)
 	tracked(t, s, 2)
 	commits(t, young, 0, api.OK)
+	tracked(t, s, 2)
+	puts(t, s, a, nil)
 	tracked(t, s, 0)
+}
+
+// A commit of one that has neither marks nor changes leaves the tracker as it is, also where all that was written is forgotten; a mark alone or a change alone does not: P15.1.
+func TestTrackedEmpty(t *testing.T) {
+	a := key("A", "a")
+	plays := []struct {
+		name string
+		does func(x *Txn)
+		want int
+	}{
+		{"nothing", func(x *Txn) {}, 1},
+		{"Put and Drop", func(x *Txn) { x.Put(a, nil); x.Drop() }, 1},
+		{"At below", func(x *Txn) { x.At(0, a) }, 1},
+		{"a wrong key", func(x *Txn) { x.Read(api.Key{}) }, 1},
+		{"Read", func(x *Txn) { x.Read(a) }, 0},
+		{"Scan", func(x *Txn) { x.Scan("A", nil) }, 0},
+		{"Put", func(x *Txn) { x.Put(key("A", "b"), nil) }, 0},
+		{"Put and Delete", func(x *Txn) { x.Put(key("A", "b"), nil); x.Delete(key("A", "b")) }, 0},
+	}
+	for _, play := range plays {
+		s := nine(t)
+		x, y := s.Begin(), s.Begin()
+		x.Put(a, nil)
+		commits(t, x, 1, api.OK)
+		play.does(y)
+		if _, e := y.Commit(); e != api.OK || s.Tracked() != play.want || s.Open() != 0 {
+			t.Error(play.name, e, s.Tracked(), s.Open())
+		}
+	}
 }
 
 func tracked(t *testing.T, s *Store, want int) {
